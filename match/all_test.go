@@ -116,7 +116,7 @@ func some(count int, hold func(a, b api.Node)) {
 
 // P11.1: trees by chance.
 func TestByChance(t *testing.T) {
-	some(10000, func(a, b api.Node) {
+	some(4000, func(a, b api.Node) {
 		hold(t, a, b)
 	})
 }

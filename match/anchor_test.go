@@ -140,8 +140,8 @@ func TestProgramsByChance(t *testing.T) {
 // P11.1: all pairs of programs of two of the items, in any order, against each other.
 func TestAllPairsOfItems(t *testing.T) {
 	var all []api.Node
-	for i := 0; i < len(items); i += 2 {
-		for j := 1; j < len(items); j += 3 {
+	for i := 0; i < len(items); i += 3 {
+		for j := 1; j < len(items); j += 4 {
 			all = append(all, program(t, items[i], items[j]), program(t, items[j], items[i]))
 		}
 	}
